@@ -1,0 +1,1 @@
+"""Scopefree: programs whose memory is released where scopes end."""
