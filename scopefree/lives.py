@@ -36,12 +36,16 @@ def fitting_scope(program, site, low):
 
 def plan_of_run(program, answers):
     """Tells for each site the scope farthest inside with which the run reads no released cell."""
-    lows = {}
-    for read in reads_of_run(program, answers):
-        site = read[1]
-        lows[site] = min(read[3], lows.get(site, read[3]))
+    return farthest_plan(program, [(read[1], read[3]) for read in reads_of_run(program, answers)])
+
+
+def farthest_plan(program, reads):
+    """Tells the plan farthest inside with which no read (site, low) is one of a released cell."""
+    least = {}
+    for site, low in reads:
+        least[site] = min(low, least.get(site, low))
     sites = range(len(program.sites))
-    return tuple([fitting_scope(program, site, lows.get(site)) for site in sites])
+    return tuple([fitting_scope(program, site, least.get(site)) for site in sites])
 
 
 def released_reads(program, answers, plan):

@@ -19,7 +19,7 @@ class BadProgram(ScopeError):
     """A text is not one of a program: the line, or None for the text as a whole, and why."""
 
     def __init__(self, line, reason):
-        ScopeError.__init__(self, f"not a program: {reason}, line {line}")
+        super().__init__(f"not a program: {reason}, line {line}")
         self.line = line
         self.reason = reason
 

@@ -47,12 +47,17 @@ def read_after(program, site, scope):
 def answers_for(program, read, limit):
     """Tells the first answers, of at most so many, with which a run has a read, or None."""
     wanted = tuple(read)
+    return first_answers(program, limit, lambda told: told == wanted)
+
+
+def first_answers(program, limit, fits):
+    """Tells the first answers, of at most so many, with a read (site, point, low) that fits."""
     row = [((), begun(program))]
     for many in range(limit + 1):
         if many > 0:
             row = next_row(row)
         for answers, walk in row:
-            if has_new_read(walk, wanted):
+            if any([fits(told) for told in new_reads(walk)]):
                 return answers
     return None
 
@@ -67,9 +72,9 @@ def next_row(row):
     return following
 
 
-def has_new_read(walk, wanted):
-    """Tells if a walk has a read behind its last answer, or at all if it has no answers."""
+def new_reads(walk):
+    """Tells the reads of a walk behind its last answer, or all if it has no answers."""
+    told = []
     for step, cell, low in walk.reads[walk.earlier:]:
-        if (walk.cells[cell][0], walk.points[step], low) == wanted:
-            return True
-    return False
+        told.append((walk.cells[cell][0], walk.points[step], low))
+    return told

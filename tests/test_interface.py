@@ -4,7 +4,7 @@ import copy
 import inspect
 import unittest
 
-from scopefree import errors, lives, programs, reads, runs, scopes
+from scopefree import desk, errors, lives, machine, plans, programs, reads, runs, scopes, use
 from scopefree.programs import Program
 
 TEXT = "a = 1\nwhile ? {\nif ? {\nb = [a, a]\n} else {\nprint b\n}\n}\n{\nc = [b, b]\n}"
@@ -15,7 +15,7 @@ ATTRIBUTES = (
 )
 
 
-# Each function of parts C to E with arguments; lists stand for tuples, also within.
+# Each function of parts C to H with arguments; lists stand for tuples, also within.
 CALLS = (
     (runs.run, [True, True, False]),
     (runs.visited_points, [True, True, False]),
@@ -30,7 +30,25 @@ CALLS = (
     (reads.read_after, 0, 2),
     (reads.answers_for, [0, 11, 0], 8),
     (reads.check_scope, 0, 2),
+    (plans.check_plan, [2, 4]),
+    (plans.least_plan,),
+    (plans.unsafe_sites, [2, 4]),
+    (plans.is_safe, [2, 4]),
+    (plans.mended, [2, 4]),
+    (plans.safe_plan_count,),
+    (plans.find_fault, [2, 4], 8),
+    (use.use_of_run, [2, 4], [True, True, False]),
+    (use.greatest_use, [2, 4]),
+    (use.greatest_uses, [2, 4]),
+    (use.growing_sites, [0, 4]),
+    (use.answers_with, [0, 4], 1),
+    (machine.lacking_answers, [0, 0], 0),
 )
+# What these return, if it is no tuple.
+KINDS = {
+    "read_after": bool, "is_safe": bool, "safe_plan_count": int, "greatest_use": int,
+    "check_scope": type(None), "check_plan": type(None),
+}
 READING = TEXT + "\nd = b.head\nd = c.tail\nprint d\nprint a"
 
 
@@ -85,18 +103,18 @@ class Values(unittest.TestCase):
         for answer in scopes.answers_to(program, 3):
             self.assertIs(type(answer), bool)
 
-    def test_functions_of_runs_lives_and_reads(self):
+    def test_functions_of_parts_c_to_h(self):
         program = Program(READING)
         for call, *more in CALLS:
             value = call(program, *more)
             self.assertTrue(plain(value), call)
-            kind = {"read_after": bool, "check_scope": type(None)}.get(call.__name__, tuple)
+            kind = KINDS.get(call.__name__, tuple)
             self.assertIs(type(value), kind, call)
             if kind is tuple:
                 self.assertNotEqual(value, (), call)
             self.assertEqual(call(program, *map(tupled, more)), value, call)
 
-    def test_functions_of_runs_lives_and_reads_change_nothing(self):
+    def test_functions_of_parts_c_to_h_change_nothing(self):
         program = Program(READING)
         ahead = copy.deepcopy(vars(program))
         for call, *more in CALLS:
@@ -109,7 +127,29 @@ class Values(unittest.TestCase):
             for site, scope, error in ((2, 0, scopes.NoSite), (0, 3, reads.NoScope)):
                 with self.assertRaises(error):
                     call(program, site, scope)
+        for call in (plans.check_plan, plans.mended, use.greatest_uses, use.growing_sites):
+            for plan in ([0], [2, 3]):
+                with self.assertRaises(plans.BadPlan):
+                    call(program, plan)
         self.assertEqual(vars(program), ahead)
+
+    def test_machines_and_desks(self):
+        program = Program(READING)
+        ahead = copy.deepcopy(vars(program))
+        plan, other = [0, 0], desk.Desk(program)
+        engine = machine.Machine(program, plan, 3)
+        told = [engine.go(), engine.answer(True), engine.answer(True), engine.answer(False)]
+        self.assertEqual(told[-1], ("print", "pair"))
+        told += [engine.go(), engine.go(), engine.memory(), engine.taken()]
+        told += [other.place(0, 2), other.mend(), other.plan(), other.undo(), other.redo()]
+        told += [other.undo(), other.unsafe_sites(), other.fault(8)]
+        for value in told:
+            self.assertIs(type(value), tuple)
+            self.assertTrue(plain(value))
+        self.assertEqual((type(engine.state()), type(engine.word("b"))), (str, int))
+        for number in (other.changes(), other.tighten(0)):
+            self.assertIs(type(number), int)
+        self.assertEqual((plan, vars(program)), ([0, 0], ahead))
 
     def test_answers_and_numbers_of_runs(self):
         program = Program(READING)
@@ -155,14 +195,34 @@ class Names(unittest.TestCase):
                 "NoScope", "check_scope", "possible_reads", "values_at", "read_after",
                 "answers_for",
             ),
+            plans: (
+                "BadPlan", "check_plan", "least_plan", "unsafe_sites", "is_safe", "mended",
+                "safe_plan_count", "find_fault",
+            ),
+            use: (
+                "use_of_run", "greatest_use", "greatest_uses", "growing_sites", "answers_with",
+            ),
+            machine: (
+                "UnsafePlan", "BadCapacity", "NoVariable", "NotNow", "Machine", "lacking_answers",
+            ),
+            desk: ("NothingLeft", "Desk"),
         }
         for module, names in listed.items():
             for name in names:
                 self.assertEqual(getattr(module, name).__module__, module.__name__)
 
     def test_methods_stand_in_the_class_itself(self):
-        for name in ("text", "scopes_around"):
-            self.assertIn(name, vars(Program))
+        listed = {
+            Program: ("text", "scopes_around"),
+            machine.Machine: ("go", "answer", "state", "memory", "taken", "word"),
+            desk.Desk: (
+                "plan", "changes", "place", "tighten", "mend", "undo", "redo", "unsafe_sites",
+                "fault", "greatest_use",
+            ),
+        }
+        for kind, names in listed.items():
+            for name in names:
+                self.assertIn(name, vars(kind))
 
     def test_arguments(self):
         listed = {
@@ -187,13 +247,48 @@ class Names(unittest.TestCase):
             reads.values_at: ["program", "point", "variable"],
             reads.read_after: ["program", "site", "scope"],
             reads.answers_for: ["program", "read", "limit"],
+            plans.check_plan: ["program", "plan"],
+            plans.least_plan: ["program"],
+            plans.unsafe_sites: ["program", "plan"],
+            plans.is_safe: ["program", "plan"],
+            plans.mended: ["program", "plan"],
+            plans.safe_plan_count: ["program"],
+            plans.find_fault: ["program", "plan", "limit"],
+            use.use_of_run: ["program", "plan", "answers"],
+            use.greatest_use: ["program", "plan"],
+            use.greatest_uses: ["program", "plan"],
+            use.growing_sites: ["program", "plan"],
+            use.answers_with: ["program", "plan", "many"],
+            machine.NotNow: ["state"],
+            machine.Machine: ["program", "plan", "capacity"],
+            machine.lacking_answers: ["program", "plan", "capacity"],
+            desk.Desk: ["program"],
         }
         for call, names in listed.items():
             self.assertEqual(list(inspect.signature(call).parameters), names)
 
+    def test_arguments_of_methods(self):
+        listed = {
+            machine.Machine(Program(TEXT), (0, 0), 1): {
+                "go": [], "answer": ["yes"], "state": [], "memory": [], "taken": [],
+                "word": ["variable"],
+            },
+            desk.Desk(Program(TEXT)): {
+                "plan": [], "changes": [], "place": ["site", "scope"], "tighten": ["site"],
+                "mend": [], "undo": [], "redo": [], "unsafe_sites": [], "fault": ["limit"],
+                "greatest_use": [],
+            },
+        }
+        for thing, methods in listed.items():
+            for name, names in methods.items():
+                call = getattr(thing, name)
+                self.assertEqual(list(inspect.signature(call).parameters), names)
+
     def test_errors(self):
         kinds = (
             programs.TooLong, programs.BadProgram, scopes.NoPoint, scopes.NoSite, reads.NoScope,
+            plans.BadPlan, machine.UnsafePlan, machine.BadCapacity, machine.NoVariable,
+            machine.NotNow, desk.NothingLeft,
         )
         for kind in kinds:
             self.assertTrue(issubclass(kind, errors.ScopeError))
